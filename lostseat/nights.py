@@ -1,6 +1,6 @@
 """Nights, seatings and shares: what is one, and what the other modules need of them."""
 
-from lostseat.errors import BadNight, BadSeating
+from lostseat.errors import BadGuest, BadNight, BadSeat, BadSeating
 
 MOST_GUESTS = 40
 
@@ -65,6 +65,14 @@ def check_night(night):
         raise BadNight(f"a night is a tuple of an order, of 1 to {MOST_GUESTS}, and a rising list of lost ones")
 
 
+def check_guest_and_seat(guest, seat, many):
+    """Refuse what is no guest, then what is no seat, of so many."""
+    if not is_counted(guest, many):
+        raise BadGuest("a guest is a number from 0 on, below as many as there are")
+    if not is_counted(seat, many):
+        raise BadSeat("a seat is a number from 0 on, below as many as there are")
+
+
 def check_seating(seats, many):
     """Refuse what is no seating of so many guests."""
     if not is_each_once(seats, many):
@@ -84,19 +92,25 @@ def summed(one, other):
     return lowest(one[0] * other[1] + other[0] * one[1], one[1] * other[1])
 
 
+def choosable(guest, lost, free):
+    """The seats that a guest can choose, a list, of those that are free."""
+    if guest in free and guest not in lost:
+        return [guest]
+    return list(free)
+
+
 def walk(night, seats):
     """How many seats could be chosen at each turn, and the turn that bars the seating.
 
     The turn is None if none does; else the choices are just those ahead of it.
     """
     order, lost = night
-    many = len(order)
-    is_free = [True] * many
+    free = sorted(order)
     choices = []
     for turn, guest in enumerate(order):
-        own_is_due = is_free[guest] and guest not in lost
-        if own_is_due and seats[guest] != guest:
+        to_choose = choosable(guest, lost, free)
+        if seats[guest] not in to_choose:
             return choices, turn
-        choices.append(1 if own_is_due else many - turn)
-        is_free[seats[guest]] = False
+        choices.append(len(to_choose))
+        free.remove(seats[guest])
     return choices, None

@@ -7,18 +7,16 @@ these alike seats each set of as many as are free is free with the same share,
 and no way has to be gone through.
 """
 
-from lostseat.errors import BadGuest, BadSeat, BadSeats, BadTurn
-from lostseat.nights import check_night, check_seating, is_counted, is_rising, lowest, summed, walk
+from lostseat.errors import BadSeats, BadTurn
+from lostseat.nights import (
+    check_guest_and_seat, check_night, check_seating, is_counted, is_rising, lowest, summed, walk,
+)
 
 
 def share(night, guest, seat):
     """The share that at the end a guest sits on a seat."""
     check_night(night)
-    many = len(night[0])
-    if not is_counted(guest, many):
-        raise BadGuest("a guest is a number from 0 on, below as many as there are")
-    if not is_counted(seat, many):
-        raise BadSeat("a seat is a number from 0 on, below as many as there are")
+    check_guest_and_seat(guest, seat, len(night[0]))
     return share_at(night, night[0].index(guest), seat)
 
 

@@ -1,7 +1,6 @@
 """Promises 1 to 4: shares, against all ways gone through one by one."""
 
 import copy
-import time
 import unittest
 from collections import Counter
 from fractions import Fraction
@@ -16,7 +15,7 @@ BY_HAND = ([1, 0, 2], [1])
 A_NIGHT = ([4, 2, 0, 3, 1], [0, 2])
 
 
-class AgainstAllWays(unittest.TestCase):
+class AgainstAllWays(ways.Checks, unittest.TestCase):
     def test_by_hand(self):
         self.assertEqual(share(BY_HAND, 2, 2), (1, 2))
         self.assertEqual(share(BY_HAND, 0, 0), (2, 3))
@@ -85,19 +84,8 @@ class AgainstAllWays(unittest.TestCase):
             average += part * sum(guest == seat for guest, seat in enumerate(seats))
         self.check_told(own(night), average)
 
-    def check_told(self, told, part):
-        self.assertIs(type(told), tuple)
-        self.assertEqual([type(number) for number in told], [int, int])
-        self.assertEqual(told, ways.as_share(part))
 
-
-class GreatNights(unittest.TestCase):
-    def setUp(self):
-        self.start = time.monotonic()
-
-    def tearDown(self):
-        self.assertLess(time.monotonic() - self.start, 60)
-
+class GreatNights(ways.Prompt, unittest.TestCase):
     def test_guests_and_seats_come_to_one_whole(self):
         for night in ways.great_nights():
             with self.subTest(night=night):
@@ -154,7 +142,7 @@ class GreatNights(unittest.TestCase):
         self.assertEqual(seating(night, turned), (1, factorial(40)))
 
 
-class Refusals(unittest.TestCase):
+class Refusals(ways.Checks, unittest.TestCase):
     def test_nights(self):
         for night in ways.wrong_nights():
             for call in (lambda: share(night, 0, 0), lambda: share(night, None, None),
@@ -182,9 +170,11 @@ class Refusals(unittest.TestCase):
             for seats in ways.wrong_risings(many):
                 for turn in (0, 1, many - 1, many):
                     self.refused(errors.BadSeats, lambda: free_share(night, turn, seats))
+        for seats in ways.last_wrong(40):
+            self.refused(errors.BadSeats, free_share, (list(range(40)), [3, 39]), 0, seats)
 
     def test_seating(self):
-        for night in (A_NIGHT, BY_HAND):
+        for night in (A_NIGHT, BY_HAND, (list(range(40)), [3, 39])):
             for seats in ways.wrong_seatings(len(night[0])):
                 self.refused(errors.BadSeating, lambda: seating(night, seats))
 
@@ -194,11 +184,6 @@ class Refusals(unittest.TestCase):
             free_share(night, 40, [])
             seating(night, list(range(40)))
             own(night)
-
-    def refused(self, error, call):
-        with self.assertRaises(errors.SeatError) as caught:
-            call()
-        self.assertIs(type(caught.exception), error)
 
 
 class HandedIn(unittest.TestCase):
